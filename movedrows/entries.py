@@ -6,6 +6,7 @@ from movedrows.parts import is_between
 NOWHERE = 0
 STRIKE = 0
 ROW = 1
+ABSENCE = 2
 MOST_CHANGES = 1000
 
 
