@@ -24,6 +24,52 @@ FUNCTIONS = {
         "lane_of": ["way", "key"],
         "lanes_of": ["way", "history"],
     },
+    "movedrows.standings": {
+        "first_standing": ["way"],
+        "ranked": ["standing"],
+        "shown_rows": ["standing"],
+        "showing": ["standing"],
+        "is_true": ["standing"],
+        "is_quiet": ["standing"],
+    },
+    "movedrows.steps": {
+        "steps_from": ["way", "standing"],
+        "behind_step": ["way", "rules", "standing", "step"],
+    },
+    "movedrows.weavings": {
+        "walked": ["way", "rules", "weaving"],
+        "log_of": ["way", "rules", "weaving"],
+        "history_of": ["weaving"],
+    },
+    "movedrows.reach": {
+        "standings": ["way", "rules", "limit"],
+        "least_steps": ["way", "rules", "limit"],
+        "weaving_to": ["way", "rules", "standing", "limit"],
+    },
+    "movedrows.wishes": {
+        "remembered": ["word", "ahead", "standing"],
+        "is_broken": ["word", "standing"],
+        "standings_for": ["way", "rules", "word", "limit"],
+        "keeps": ["way", "rules", "word", "limit"],
+        "breaking": ["way", "rules", "word", "limit"],
+    },
+    "movedrows.alike": {
+        "double_standings": ["way", "rules", "others", "limit"],
+        "are_alike": ["way", "rules", "others", "limit"],
+        "parting": ["way", "rules", "others", "limit"],
+    },
+    "movedrows.asked": {
+        "asked_rules": ["way", "rules", "limit"],
+        "asking": ["way", "rules", "index", "limit"],
+    },
+    "movedrows.back": {
+        "require_weights": ["value"],
+        "is_right": ["standing"],
+        "readers_steps": ["way", "standing"],
+        "way_back_of": ["way", "rules", "weights", "standing", "limit"],
+        "back_from": ["way", "rules", "weights", "standing", "limit"],
+        "farthest": ["way", "rules", "weights", "limit"],
+    },
 }
 
 
@@ -34,7 +80,14 @@ class Interface(unittest.TestCase):
                 with self.subTest(module=module, name=name):
                     function = getattr(importlib.import_module(module), name)
                     self.assertEqual(function.__module__, module)
-                    self.assertEqual(list(inspect.signature(function).parameters), arguments)
+                    parameters = inspect.signature(function).parameters
+                    self.assertEqual(list(parameters), arguments)
+                    for argument, parameter in parameters.items():
+                        if argument == "limit":
+                            self.assertEqual((parameter.kind, parameter.default), (parameter.KEYWORD_ONLY, 2000))
+                        else:
+                            self.assertEqual(parameter.kind, parameter.POSITIONAL_OR_KEYWORD)
+                            self.assertIs(parameter.default, parameter.empty)
 
 
 if __name__ == "__main__":

@@ -1,6 +1,7 @@
 """The rules of LANGUAGE.md that are plain to check: files, imports, sizes, characters, some words."""
 
 import ast
+import builtins
 import pathlib
 import re
 import unittest
@@ -10,11 +11,48 @@ FILES = sorted(PACKAGE.rglob("*.py"))
 OUTSIDE = {"heapq", "math", "itertools", "collections"}
 BARRED_NAMES = {"register", "mro", "elements", "open", "input", "law", "version_info"}
 STATEMENTS = (ast.ImportFrom, ast.FunctionDef, ast.ClassDef, ast.Assign)
+BUILTINS = set("""
+    len range enumerate zip min max sum abs sorted reversed int str bool list tuple dict set isinstance ord repr
+    any all divmod Exception ValueError TypeError KeyError IndexError LookupError ZeroDivisionError ArithmeticError
+    OverflowError RuntimeError NotImplementedError StopIteration
+""".split())
+METHODS = set("""
+    append clear copy count endswith extend find get index insert isalnum isalpha isdigit islower isspace isupper items
+    join keys ljust lower lstrip partition pop remove replace reverse rfind rjust rpartition rsplit rstrip setdefault
+    split splitlines startswith strip update upper values zfill bit_length add discard
+""".split())
+WORDS_NOWHERE = ("type", "typing", "enum", "namedtuple", "dataclass", "overload", "contextmanager")
 
 
 def is_docstring(node):
     """Return whether a statement is a text alone."""
     return isinstance(node, ast.Expr) and isinstance(node.value, ast.Constant) and isinstance(node.value.value, str)
+
+
+def trees():
+    """Return a list of (path, tree) of all files."""
+    return [(path, ast.parse(path.read_text())) for path in FILES]
+
+
+def bound_names(node):
+    """Return the set of the names that are bound in a tree, but by imports."""
+    names = set()
+    for inner in ast.walk(node):
+        if isinstance(inner, ast.Name) and not isinstance(inner.ctx, ast.Load):
+            names.add(inner.id)
+        if isinstance(inner, (ast.FunctionDef, ast.ClassDef)):
+            names.add(inner.name)
+        if isinstance(inner, ast.arg):
+            names.add(inner.arg)
+        if isinstance(inner, ast.ExceptHandler) and inner.name:
+            names.add(inner.name)
+    return names
+
+
+def imported_names(tree):
+    """Return the set of the names that a file imports."""
+    imports = [node for node in tree.body if isinstance(node, ast.ImportFrom)]
+    return {alias.asname or alias.name for node in imports for alias in node.names}
 
 
 class Language(unittest.TestCase):
@@ -69,6 +107,73 @@ class Language(unittest.TestCase):
                             self.assertNotRegex(name, r"^__")
                     self.assertNotIsInstance(node, ast.Div)
                     self.assertNotIsInstance(getattr(node, "value", None), float)
+
+    def test_builtins(self):
+        for path, tree in trees():
+            with self.subTest(path.name):
+                self.assertEqual(bound_names(tree) & set(dir(builtins)), set())
+                used = {node.id for node in ast.walk(tree) if isinstance(node, ast.Name)} - bound_names(tree)
+                self.assertEqual((used - imported_names(tree)) & set(dir(builtins)) - BUILTINS, set())
+                self.assertEqual(used - imported_names(tree) - set(dir(builtins)), set())
+
+    def test_each_name_is_bound_once(self):
+        for path, tree in trees():
+            top = [name for node in tree.body for name in (
+                [node.name] if isinstance(node, (ast.FunctionDef, ast.ClassDef)) else
+                [alias.name for alias in node.names] if isinstance(node, ast.ImportFrom) else
+                [target.id for target in node.targets] if isinstance(node, ast.Assign) else [])]
+            with self.subTest(path.name):
+                self.assertEqual(sorted(top), sorted(set(top)))
+            classes = {node.name for node in tree.body if isinstance(node, ast.ClassDef)}
+            for node in ast.walk(tree):
+                if isinstance(node, ast.FunctionDef):
+                    with self.subTest(file=path.name, function=node.name):
+                        local = bound_names(node) - {node.name}
+                        self.assertEqual(local & (classes | imported_names(tree)), set())
+
+    def test_imports_are_used_and_come_from_where_they_are_defined(self):
+        for path, tree in trees():
+            used = {node.id for node in ast.walk(tree) if isinstance(node, ast.Name)}
+            with self.subTest(path.name):
+                self.assertEqual(imported_names(tree) - used, set())
+            for node in tree.body:
+                if isinstance(node, ast.ImportFrom) and node.module.startswith("movedrows."):
+                    there = ast.parse((PACKAGE / (node.module.split(".")[1] + ".py")).read_text())
+                    with self.subTest(file=path.name, module=node.module):
+                        self.assertEqual({alias.name for alias in node.names} - bound_names(there), set())
+
+    def test_no_file_imports_itself_through_others(self):
+        imported = {}
+        for path, tree in trees():
+            modules = [node.module for node in tree.body if isinstance(node, ast.ImportFrom)]
+            imported[path.stem] = {module.split(".")[1] for module in modules if module.startswith("movedrows.")}
+        while imported:
+            free = [name for name, needed in imported.items() if not needed & set(imported)]
+            self.assertTrue(free, imported)
+            imported = {name: needed for name, needed in imported.items() if name not in free}
+
+    def test_methods_of_builtin_values(self):
+        for path, tree in trees():
+            own = {node.name for node in ast.walk(tree) if isinstance(node, ast.FunctionDef)}
+            for node in ast.walk(tree):
+                if isinstance(node, ast.Call) and isinstance(node.func, ast.Attribute):
+                    with self.subTest(file=path.name, line=node.lineno):
+                        self.assertIn(node.func.attr, METHODS | own)
+
+    def test_sets_are_sorted_or_measured_at_once(self):
+        for path, tree in trees():
+            at_once = [node.args[0] for node in ast.walk(tree) if isinstance(node, ast.Call)
+                       and isinstance(node.func, ast.Name) and node.func.id in ("sorted", "len")]
+            for node in ast.walk(tree):
+                if isinstance(node, (ast.Set, ast.SetComp)):
+                    with self.subTest(file=path.name, line=node.lineno):
+                        self.assertIn(node, at_once)
+
+    def test_words_that_do_not_occur(self):
+        for path in FILES:
+            for word in WORDS_NOWHERE:
+                with self.subTest(file=path.name, word=word):
+                    self.assertNotRegex(path.read_text(), rf"\b{word}\b")
 
 
 if __name__ == "__main__":
