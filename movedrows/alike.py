@@ -59,13 +59,17 @@ def double_standings(way, rules, others, *, limit=LIMIT):
     return tuple(sorted(doubles_reached(way, rules, others, limit)))
 
 
-def parting(way, rules, others, *, limit=LIMIT):
-    """Return a shortest weaving after which what the two show differs, or None."""
-    origins = doubles_reached(way, rules, others, limit)
+def parting_in(origins):
+    """Return a shortest weaving of a search of double standings after which what the two show differs, or None."""
     for double in origins:
         if is_parted(double):
             return weaving_in(origins, double)
     return None
+
+
+def parting(way, rules, others, *, limit=LIMIT):
+    """Return a shortest weaving after which what the two show differs, or None."""
+    return parting_in(doubles_reached(way, rules, others, limit))
 
 
 def are_alike(way, rules, others, *, limit=LIMIT):

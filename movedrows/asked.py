@@ -29,11 +29,15 @@ def asked_rules(way, rules, *, limit=LIMIT):
     return tuple(sorted(first_asking_steps(way, reached(way, rules, limit))))
 
 
-def asking(way, rules, index, *, limit=LIMIT):
-    """Return a shortest weaving whose last step asks the rule with the index, or None."""
-    origins = reached(way, rules, limit)
+def asking_in(way, origins, index):
+    """Return a shortest weaving of a search of standings whose last step asks the rule with the index, or None."""
     firsts = first_asking_steps(way, origins)
     if index not in firsts:
         return None
     standing, step = firsts[index]
     return weaving_in(origins, standing) + (step,)
+
+
+def asking(way, rules, index, *, limit=LIMIT):
+    """Return a shortest weaving whose last step asks the rule with the index, or None."""
+    return asking_in(way, reached(way, rules, limit), index)

@@ -45,13 +45,18 @@ def weight_of(weights, step):
     return weights[index]
 
 
+def readers_followers(way, rules, weights, standing):
+    """Return a list of (step, its weight, standing after it) for all reader's steps that can be done."""
+    steps = readers_steps(way, standing)
+    return [(step, weight_of(weights, step), stepped(way, rules, standing, step)) for step in steps]
+
+
 def steps_into(way, rules, weights, known):
     """Return a dict from each known standing to a list of the reader's (weight, standing ahead, step) into it."""
     into = {standing: [] for standing in known}
     for standing in known:
-        for step in readers_steps(way, standing):
-            after = stepped(way, rules, standing, step)
-            into[after].append((weight_of(weights, step), standing, step))
+        for step, weight, after in readers_followers(way, rules, weights, standing):
+            into[after].append((weight, standing, step))
     return into
 
 

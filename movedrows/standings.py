@@ -4,6 +4,7 @@ from movedrows.entries import NOWHERE, ROW
 from movedrows.ways import LANES
 
 # The parts of a standing, by their indices.
+LANE_PARTS = 2
 HELD = 3
 MEMORY = 5
 

@@ -3,7 +3,7 @@
 from movedrows.entries import ABSENCE, ROW, STRIKE, is_change
 from movedrows.errors import CannotStep
 from movedrows.rules import laid
-from movedrows.standings import EMPTY_LANE, HELD, MEMORY, NO_PICTURE, fresh_stamp, ranked, stamps_of
+from movedrows.standings import EMPTY_LANE, HELD, LANE_PARTS, MEMORY, NO_PICTURE, fresh_stamp, ranked, stamps_of
 from movedrows.ways import LAG, MARKS, PEEKS, PICTURE, PRESS, SLIPS, WIPE, lane_of, told_in_order
 
 PLACES = (0, 1, 2)
@@ -19,16 +19,25 @@ WIPE_ANY = 3
 MARKS_BEHIND = 2
 
 
-def lanes_told(way, standing, later, stamp):
-    """Return the lanes after a change to the later place with the stamp."""
-    place, _, lanes, _, phase, _ = standing
+def entries_told(way, standing, later, stamp):
+    """Return the entries of a change to the later place with the stamp, in the order in which they go into lanes."""
+    place, _, _, _, phase, _ = standing
     if phase != NO_PICTURE and way[PICTURE] == MARKS_BEHIND:
-        return lanes
-    entries = told_in_order(way, place, later, stamp)
+        return ()
+    return told_in_order(way, place, later, stamp)
+
+
+def lanes_with(way, lanes, entries):
+    """Return the lanes with more entries at their ends; whatever stands behind its key in an entry stays as it is."""
     told = []
     for lane, (again, untaken) in enumerate(lanes):
         told.append((again, untaken + tuple([entry for entry in entries if lane_of(way, entry[0]) == lane])))
     return tuple(told)
+
+
+def lanes_told(way, standing, later, stamp):
+    """Return the lanes after a change to the later place with the stamp."""
+    return lanes_with(way, standing[LANE_PARTS], entries_told(way, standing, later, stamp))
 
 
 def can_change(way, standing, later):
@@ -127,7 +136,7 @@ def can_do(way, standing, step):
 
 
 def part_behind(way, part, step):
-    """Return again and untaken of a lane, after a step that concerns this lane alone."""
+    """Return again and untaken of a lane, after a step that concerns this lane alone; entries stay as they are."""
     again, untaken = part
     word = step[0]
     if word == "take":
@@ -145,6 +154,12 @@ def part_behind(way, part, step):
     return (again, untaken[:index] + untaken[index + 1:])
 
 
+def lanes_behind(way, lanes, step):
+    """Return the lanes after a step that concerns one of them alone."""
+    lane = step[1]
+    return lanes[:lane] + (part_behind(way, lanes[lane], step),) + lanes[lane + 1:]
+
+
 def moved(way, standing, step, stamp):
     """Return (place, now, lanes, phase) after a step that can be done; stamp is that of a change."""
     place, now, lanes, _, phase, _ = standing
@@ -159,9 +174,7 @@ def moved(way, standing, step, stamp):
         return (place, now, lanes, NO_PICTURE)
     if word == "peek":
         return (place, now, lanes, phase)
-    lane = step[1]
-    part = part_behind(way, lanes[lane], step)
-    return (place, now, lanes[:lane] + (part,) + lanes[lane + 1:], phase)
+    return (place, now, lanes_behind(way, lanes, step), phase)
 
 
 def asking_entry(standing, step):

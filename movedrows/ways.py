@@ -14,6 +14,7 @@ PRESS = 5
 WIPE = 6
 PICTURE = 7
 PEEKS = 8
+WAY_PARTS = 9
 
 # The least and the greatest value of each part.
 RANGES = ((1, 2), (0, 1), (1, 3), (0, 2), (0, 1), (0, 1), (0, 3), (0, 2), (0, 1))
@@ -21,7 +22,7 @@ RANGES = ((1, 2), (0, 1), (1, 3), (0, 2), (0, 1), (0, 1), (0, 3), (0, 2), (0, 1)
 
 def require_way(value):
     """Return any value that is a way; raise InvalidWay for any other one."""
-    if not isinstance(value, tuple) or len(value) != len(RANGES):
+    if not isinstance(value, tuple) or len(value) != WAY_PARTS:
         raise InvalidWay(None)
     for index, (least, greatest) in enumerate(RANGES):
         if not is_between(value[index], least, greatest):
@@ -38,6 +39,11 @@ def is_way_within(way, other):
             return False
     # The two pictures are of different sorts: neither has what the other one does.
     return way[PICTURE] in (0, other[PICTURE])
+
+
+def way_with(way, part, value):
+    """Return the way with another value of the part."""
+    return way[:part] + (value,) + way[part + 1:]
 
 
 def lane_of(way, key):

@@ -5,16 +5,23 @@ from movedrows.standings import first_standing, showing
 from movedrows.steps import can_do, stepped
 
 
+def states_along(way, first, behind, weaving):
+    """Return a list of the states from the first one on, one more than the weaving has steps.
+
+    A state is a standing, or a double one; behind(state, step) is the state after a step that can be done.
+    Raise CannotStep with the index of the first wrong step.
+    """
+    along = [first]
+    for index, step in enumerate(weaving):
+        if not can_do(way, along[-1], step):
+            raise CannotStep(index)
+        along.append(behind(along[-1], step))
+    return along
+
+
 def standings_along(way, rules, weaving):
     """Return a list of the standings from the first one on, one more than the weaving has steps."""
-    standing = first_standing(way)
-    along = [standing]
-    for index, step in enumerate(weaving):
-        if not can_do(way, standing, step):
-            raise CannotStep(index)
-        standing = stepped(way, rules, standing, step)
-        along.append(standing)
-    return along
+    return states_along(way, first_standing(way), lambda ahead, step: stepped(way, rules, ahead, step), weaving)
 
 
 def walked(way, rules, weaving):

@@ -5,6 +5,7 @@ from movedrows.errors import UnknownWord
 from movedrows.search import LIMIT, explored, weaving_in
 from movedrows.standings import MEMORY, NO_MEMORY, first_standing, is_quiet, is_true, ranked, shown_rows
 from movedrows.steps import stepped, steps_from
+from movedrows.weavings import states_along
 
 # The words in ascending order.
 WISHES = ("ends", "on", "one", "there")
@@ -72,10 +73,31 @@ def is_broken(word, standing):
     return is_quiet(standing) and not is_true(standing)
 
 
+def stepped_for(way, rules, word, standing, step):
+    """Return the standing after a step that can be done, with the memory of the wish."""
+    return remembered(word, standing, stepped(way, rules, standing, step))
+
+
+def standings_along_for(way, rules, word, weaving):
+    """Return a list of the standings from the first one on, with the memory of the wish.
+
+    Raise CannotStep with the index of the first step that cannot be done.
+    """
+    first = first_standing(way)
+    return states_along(way, first, lambda ahead, step: stepped_for(way, rules, word, ahead, step), weaving)
+
+
+def steps_to_break(way, rules, word, weaving):
+    """Return the number of steps of the weaving after which the wish is broken first, or None."""
+    for many, standing in enumerate(standings_along_for(way, rules, word, weaving)):
+        if is_broken(word, standing):
+            return many
+    return None
+
+
 def followers_for(way, rules, word, standing):
     """Return a list of (step, standing after it with the memory of the wish) for all steps that can be done."""
-    steps = steps_from(way, standing)
-    return [(step, remembered(word, standing, stepped(way, rules, standing, step))) for step in steps]
+    return [(step, stepped_for(way, rules, word, standing, step)) for step in steps_from(way, standing)]
 
 
 def reached_for(way, rules, word, limit):
@@ -89,13 +111,29 @@ def standings_for(way, rules, word, *, limit=LIMIT):
     return tuple(sorted(reached_for(way, rules, word, limit)))
 
 
-def breaking(way, rules, word, *, limit=LIMIT):
-    """Return a shortest weaving after which the wish is broken, or None."""
-    origins = reached_for(way, rules, word, limit)
+def breaking_in(word, origins):
+    """Return a shortest weaving of a search with the memory of the wish after which it is broken, or None."""
     for standing in origins:
         if is_broken(word, standing):
             return weaving_in(origins, standing)
     return None
+
+
+def first_break(searches):
+    """Return (wish, shortest weaving) of the first wish that is broken in its search, or None.
+
+    searches is a list of (wish, search with its memory).
+    """
+    for word, origins in searches:
+        weaving = breaking_in(word, origins)
+        if weaving is not None:
+            return (word, weaving)
+    return None
+
+
+def breaking(way, rules, word, *, limit=LIMIT):
+    """Return a shortest weaving after which the wish is broken, or None."""
+    return breaking_in(word, reached_for(way, rules, word, limit))
 
 
 def keeps(way, rules, word, *, limit=LIMIT):

@@ -2,7 +2,7 @@
 
 import random
 
-from plain import plain_ranked
+from plain import WISHES, plain_ranked
 
 
 def nested(deep):
@@ -32,6 +32,11 @@ NO_STEPS = NO_TUPLES + (
     ["take", 0], ["picture"], "picture", "end", {"take": 0}, ({"take": 0}, 0), (["take"], 0), nested(99),
     ("take", 0) * 1000, ("press",) + (0,) * 10000,
 )
+
+# Values that are no wish at all.
+NO_WISHES = NO_TUPLES + NO_INTEGERS + (
+    "One", "one ", " on", "ones", "end", "theres", "over", "row", "onends", ("one",), ["one"], {"one": 1},
+    ("one", "on"), WISHES, nested(100), [["on"]], "one\n")
 
 LANES, FIRST, LAG, MARKS, SLIPS, PRESS, WIPE, PICTURE, PEEKS = range(9)
 

@@ -317,6 +317,11 @@ def plain_standings_for(way, rules, word):
         plain_remembered(way, rules, word, standing, step) for step in plain_steps(way, standing)])
 
 
+def plain_keeps(way, rules, word):
+    """Return whether the wish is kept."""
+    return not any(plain_broken(way, word, standing) for standing in plain_standings_for(way, rules, word))
+
+
 def plain_double_behind(way, rules, others, double, step):
     """Return the double standing after a step that can be done."""
     row = Row(way, double, doubled=True)

@@ -70,7 +70,31 @@ FUNCTIONS = {
         "back_from": ["way", "rules", "weights", "standing", "limit"],
         "farthest": ["way", "rules", "weights", "limit"],
     },
+    "movedrows.lags": {
+        "least_lag": ["way", "rules", "word", "limit"],
+        "least_marks": ["way", "rules", "word", "limit"],
+        "least_wipe": ["way", "rules", "word", "limit"],
+    },
+    "movedrows.mends": {
+        "require_options": ["value"],
+        "choices": ["options"],
+        "with_choice": ["way", "rules", "options", "choice"],
+        "cheapest_mend": ["way", "rules", "wishes", "options", "limit"],
+    },
+    "movedrows.logs": {
+        "require_log": ["value"],
+        "traces": ["way", "rules", "log", "limit"],
+        "explained": ["way", "rules", "log", "limit"],
+    },
+    "movedrows.trials": {
+        "open_index": ["way", "table", "limit"],
+        "breaking_by": ["way", "table", "word", "limit"],
+        "first_table": ["way", "wishes", "limit", "tables"],
+    },
 }
+
+# The arguments that are passed by keyword alone, and what they are when they are left out.
+DEFAULTS = {"limit": 2000, "tables": 200}
 
 
 class Interface(unittest.TestCase):
@@ -83,8 +107,9 @@ class Interface(unittest.TestCase):
                     parameters = inspect.signature(function).parameters
                     self.assertEqual(list(parameters), arguments)
                     for argument, parameter in parameters.items():
-                        if argument == "limit":
-                            self.assertEqual((parameter.kind, parameter.default), (parameter.KEYWORD_ONLY, 2000))
+                        if argument in DEFAULTS:
+                            self.assertEqual(parameter.kind, parameter.KEYWORD_ONLY)
+                            self.assertEqual(parameter.default, DEFAULTS[argument])
                         else:
                             self.assertEqual(parameter.kind, parameter.POSITIONAL_OR_KEYWORD)
                             self.assertIs(parameter.default, parameter.empty)

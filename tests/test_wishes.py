@@ -2,8 +2,8 @@ import copy
 import unittest
 
 from checks import SearchCase
-from given import AHEAD, APART, EMPTY, FEW_WAYS, NO_INTEGERS, NO_TUPLES, SMALL_WAYS, nested, own_rules, random_standings
-from given import standing_of, ways_of_all_kinds, with_parts
+from given import AHEAD, APART, EMPTY, FEW_WAYS, NO_WISHES, SMALL_WAYS, own_rules, random_standings, standing_of
+from given import ways_of_all_kinds, with_parts
 from movedrows.errors import UnknownWord
 from movedrows.rules import named_rules
 from movedrows.standings import first_standing
@@ -14,9 +14,6 @@ from plain import WISHES, first_of, plain_broken, plain_remembered, plain_standi
 LAG, MARKS, SLIPS, WIPE, PICTURE, PEEKS = 2, 3, 4, 6, 7, 8
 OVER, KEY, ROW = named_rules("over"), named_rules("key"), named_rules("row")
 TABLES = (OVER, KEY, ROW)
-NO_WISHES = NO_TUPLES + NO_INTEGERS + (
-    "One", "one ", " on", "ones", "end", "theres", "over", "row", "onends", ("one",), ["one"], {"one": 1},
-    ("one", "on"), WISHES, nested(100), [["on"]], "one\n")
 
 
 class Remembered(unittest.TestCase):
