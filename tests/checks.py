@@ -4,8 +4,10 @@ import copy
 import inspect
 import unittest
 
+from movedrows.checker import first_fault
 from movedrows.errors import LimitExceeded
 from plain import first_of, plain_behind, plain_steps
+from plain_checker import plain_first_fault
 
 
 class SearchCase(unittest.TestCase):
@@ -47,6 +49,32 @@ class SearchCase(unittest.TestCase):
         self.assertIs(type(found), tuple)
         for one, other in zip(found, found[1:]):
             self.assertLess(one, other)
+
+
+class CheckedCase(unittest.TestCase):
+    def assert_fault(self, certificate, fault):
+        """Check the first fault, and that nothing that is handed in changes."""
+        kept = copy.deepcopy(certificate)
+        self.assertEqual(first_fault(certificate), fault)
+        self.assertEqual(first_fault(certificate=certificate), fault)
+        self.assertEqual(certificate, kept)
+
+    def assert_paper(self, certificate, formed):
+        """Check whether the paper has the form of a row, whatever other fault there is."""
+        fault = first_fault(certificate)
+        self.assertEqual(fault != ("paper",), formed, certificate)
+
+    def assert_plain(self, certificate, word):
+        """Check the first fault, which begins with the word, by the plain telling."""
+        fault = plain_first_fault(certificate)
+        self.assertEqual(fault[0], word)
+        self.assert_fault(certificate, fault)
+        return fault
+
+
+def less(items, *gone):
+    """Return the tuple without the items at these indices."""
+    return tuple(item for index, item in enumerate(items) if index not in gone)
 
 
 def plain_walked(way, rules, weaving):

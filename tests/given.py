@@ -33,6 +33,12 @@ NO_STEPS = NO_TUPLES + (
     ("take", 0) * 1000, ("press",) + (0,) * 10000,
 )
 
+# All steps in their form, whether they can be done or not.
+STEPS = [("change", place) for place in (0, 1, 2)]
+STEPS += [(word, lane) for word in ("take", "slip", "mark", "fall") for lane in (0, 1)]
+STEPS += [(word, lane, index) for word in ("press", "wipe") for lane in (0, 1) for index in range(1000)]
+STEPS += [("picture",), ("look", 1), ("look", 2), ("end",), ("peek", 1), ("peek", 2)]
+
 # Values that are no wish at all.
 NO_WISHES = NO_TUPLES + NO_INTEGERS + (
     "One", "one ", " on", "ones", "end", "theres", "over", "row", "onends", ("one",), ["one"], {"one": 1},

@@ -6,20 +6,10 @@ from movedrows.asked import asked_rules, asking
 from movedrows.reach import standings
 from movedrows.rules import named_rules, rules_with
 from plain import plain_asked, plain_standings, plain_steps
+from plain_searches import plain_counts
 
 LAG, SLIPS, PICTURE, PEEKS = 2, 4, 7, 8
 OVER, KEY, ROW = named_rules("over"), named_rules("key"), named_rules("row")
-
-
-def plain_counts(way, rules):
-    """Return a dict from each asked index to the least number of steps of a weaving that ends with asking it."""
-    counts = {}
-    for standing, count in plain_standings(way, rules).items():
-        for step in plain_steps(way, standing):
-            index = plain_asked(way, rules, standing, step)
-            if index is not None:
-                counts[index] = min(count + 1, counts.get(index, count + 1))
-    return counts
 
 
 class Asked(SearchCase):

@@ -1,5 +1,7 @@
 import importlib
 import inspect
+import pathlib
+import re
 import unittest
 
 # The functions that have landed, under the file that the interface lists them for, with their arguments.
@@ -91,6 +93,30 @@ FUNCTIONS = {
         "breaking_by": ["way", "table", "word", "limit"],
         "first_table": ["way", "wishes", "limit", "tables"],
     },
+    "movedrows.claims": {
+        "require_claim": ["claim"],
+        "decide": ["claim", "limit", "tables"],
+    },
+    "movedrows.checker": {
+        "first_fault": ["certificate"],
+    },
+    "movedrows.texts": {
+        "format_way": ["way"],
+        "format_rules": ["rules"],
+        "format_weaving": ["weaving"],
+        "parse_way": ["text"],
+        "parse_rules": ["text"],
+        "parse_weaving": ["text"],
+    },
+}
+
+# The methods of the class House with their arguments.
+METHODS = {
+    "change": ["name", "place"], "take": ["lane"], "slip": ["lane"], "mark": ["lane"], "fall": ["lane"],
+    "press": ["lane", "index"], "wipe": ["lane", "index"], "picture": [], "look": ["name", "key"], "end": [],
+    "peek": ["name", "key"], "deeds": [], "shows": ["name"], "place_of": ["name"], "weaving_of": ["name"],
+    "standing_of": ["name"], "lane": ["lane"], "table": [], "truth": [], "asked": [], "broken": ["word"],
+    "paper_of": ["name", "word"], "twin": [], "undo": [],
 }
 
 # The arguments that are passed by keyword alone, and what they are when they are left out.
@@ -113,6 +139,30 @@ class Interface(unittest.TestCase):
                         else:
                             self.assertEqual(parameter.kind, parameter.POSITIONAL_OR_KEYWORD)
                             self.assertIs(parameter.default, parameter.empty)
+
+    def test_house_stands_in_its_file_and_has_its_methods_itself(self):
+        house = importlib.import_module("movedrows.house").House
+        self.assertEqual(house.__module__, "movedrows.house")
+        self.assertEqual(list(inspect.signature(house).parameters), ["way", "rules", "names"])
+        for name, arguments in METHODS.items():
+            with self.subTest(name=name):
+                parameters = inspect.signature(vars(house)[name]).parameters
+                self.assertEqual(list(parameters)[1:], arguments)
+                for parameter in parameters.values():
+                    self.assertEqual(parameter.kind, parameter.POSITIONAL_OR_KEYWORD)
+                    self.assertIs(parameter.default, parameter.empty)
+        for name in ("__len__", "__eq__", "__iadd__"):
+            self.assertIn(name, vars(house))
+
+    def test_all_the_names_of_the_document(self):
+        """Where the document is at hand, each name that its interface lists for a file is here."""
+        document = pathlib.Path(__file__).resolve().parent.parent.parent / "shared" / "DOC.md"
+        if not document.exists():
+            self.skipTest("the document is not at hand")
+        text = document.read_text().split("# The interface")[1]
+        names = set(re.findall(r"`([a-z_]+)\(", text)) - set(METHODS)
+        known = {name for functions in FUNCTIONS.values() for name in functions}
+        self.assertEqual(names - known, set())
 
 
 if __name__ == "__main__":

@@ -21,7 +21,17 @@ METHODS = set("""
     join keys ljust lower lstrip partition pop remove replace reverse rfind rjust rpartition rsplit rstrip setdefault
     split splitlines startswith strip update upper values zfill bit_length add discard
 """.split())
-WORDS_NOWHERE = ("type", "typing", "enum", "namedtuple", "dataclass", "overload", "contextmanager")
+WORDS_NOWHERE = (
+    "type", "typing", "typing_extensions", "enum", "Enum", "IntEnum", "StrEnum", "Flag", "IntFlag", "Generic", "Protocol",
+    "ABC", "ABCMeta", "namedtuple", "NamedTuple", "TypedDict", "TYPE_CHECKING", "abstractmethod", "dataclass", "overload",
+    "contextmanager", "_wall", "_WallAttr")
+NAMES_NOWHERE = {
+    "attrgetter", "breakpoint", "builtins", "compile", "copyright", "credits", "delattr", "dir", "eval", "exec", "exit", "gc",
+    "getattr", "globals", "hasattr", "help", "id", "importlib", "license", "locals", "methodcaller", "os", "quit", "setattr",
+    "super", "type", "vars", "sys"}
+CLASS_METHODS = {"__init__", "__len__", "__eq__", "__iadd__"}
+CATCHABLE = {"CannotStep", "UnknownName", "UnknownWord", "InvalidWay", "InvalidRules", "InvalidWeights", "InvalidOptions",
+             "InvalidLog", "InvalidClaim"}
 
 
 def is_docstring(node):
@@ -103,6 +113,8 @@ class Language(unittest.TestCase):
                     for field in ("id", "name", "attr", "arg"):
                         name = getattr(node, field, None)
                         self.assertNotIn(name, BARRED_NAMES)
+                        if field != "attr":
+                            self.assertNotIn(name, NAMES_NOWHERE)
                         if isinstance(name, str) and not re.match(r"^__[a-z]+__$", name):
                             self.assertNotRegex(name, r"^__")
                     self.assertNotIsInstance(node, ast.Div)
@@ -168,6 +180,78 @@ class Language(unittest.TestCase):
                 if isinstance(node, (ast.Set, ast.SetComp)):
                     with self.subTest(file=path.name, line=node.lineno):
                         self.assertIn(node, at_once)
+
+    def test_what_a_class_with_operators_leaves_no_room_for(self):
+        # House has += and ==: so the package itself has no augmented assignment and no generator expression.
+        for path, tree in trees():
+            for node in ast.walk(tree):
+                with self.subTest(file=path.name, line=getattr(node, "lineno", 0)):
+                    self.assertNotIsInstance(node, (ast.AugAssign, ast.GeneratorExp, ast.Global, ast.Nonlocal, ast.Match))
+                    self.assertNotIsInstance(node, (ast.AnnAssign, ast.NamedExpr, ast.JoinedStr, ast.With, ast.AsyncFor))
+
+    def test_methods_of_classes(self):
+        for path, tree in trees():
+            for node in ast.walk(tree):
+                if isinstance(node, ast.ClassDef):
+                    methods = [inner for inner in node.body if isinstance(inner, ast.FunctionDef)]
+                    names = [method.name for method in methods]
+                    attributes = {inner.attr for inner in ast.walk(node) if isinstance(inner, ast.Attribute)
+                                  and isinstance(inner.ctx, ast.Store)}
+                    with self.subTest(file=path.name, name=node.name):
+                        self.assertEqual(len(names), len(set(names)))
+                        self.assertEqual({name for name in names if name.startswith("__")} - CLASS_METHODS, set())
+                        self.assertEqual(attributes & (set(names) | METHODS - {"count", "index", "find", "get"}), set())
+                        self.assertEqual(node.decorator_list, [])
+                    for method in methods:
+                        if method.name in ("__len__", "__eq__"):
+                            stores = [inner for inner in ast.walk(method) if isinstance(inner, (ast.Assign, ast.Delete))]
+                            self.assertEqual(stores, [])
+                        if method.name == "__iadd__":
+                            self.assertEqual([argument.arg for argument in method.args.args], ["self", "other"])
+
+    def test_errors_that_are_caught(self):
+        for path, tree in trees():
+            for node in ast.walk(tree):
+                if isinstance(node, ast.ExceptHandler):
+                    caught = node.type.elts if isinstance(node.type, ast.Tuple) else [node.type]
+                    with self.subTest(file=path.name, line=node.lineno):
+                        self.assertLessEqual({name.id for name in caught}, CATCHABLE)
+
+    def test_is_stands_beside_none_alone(self):
+        for path, tree in trees():
+            for node in ast.walk(tree):
+                if isinstance(node, ast.Compare) and isinstance(node.ops[0], (ast.Is, ast.IsNot)):
+                    with self.subTest(file=path.name, line=node.lineno):
+                        self.assertEqual(ast.dump(node.comparators[0]), ast.dump(ast.Constant(None)))
+
+    def test_strings(self):
+        for path, tree in trees():
+            docs = {ast.get_docstring(node, clean=False) for node in ast.walk(tree)
+                    if isinstance(node, (ast.Module, ast.ClassDef, ast.FunctionDef))}
+            for node in ast.walk(tree):
+                if isinstance(node, ast.Constant) and isinstance(node.value, str) and node.value not in docs:
+                    with self.subTest(file=path.name, line=node.lineno):
+                        self.assertNotRegex(node.value, r"[%{}\\\r\t]|__|\._$")
+
+    def test_defaults_are_plain_names_or_literals(self):
+        for path, tree in trees():
+            for node in ast.walk(tree):
+                if isinstance(node, (ast.FunctionDef, ast.Lambda)):
+                    defaults = node.args.defaults + [each for each in node.args.kw_defaults if each is not None]
+                    with self.subTest(file=path.name, line=node.lineno):
+                        for default in defaults:
+                            self.assertIsInstance(default, (ast.Constant, ast.Name))
+                        if isinstance(node, ast.Lambda):
+                            self.assertEqual(defaults, [])
+
+    def test_module_level_tables_hold_no_lists_and_no_dicts(self):
+        for path, tree in trees():
+            for node in tree.body:
+                if isinstance(node, ast.Assign):
+                    inner = [each for each in ast.walk(node.value) if each is not node.value]
+                    with self.subTest(file=path.name, line=node.lineno):
+                        for each in inner:
+                            self.assertNotIsInstance(each, (ast.List, ast.Dict, ast.Set, ast.Call, ast.ListComp))
 
     def test_words_that_do_not_occur(self):
         for path in FILES:

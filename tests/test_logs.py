@@ -7,7 +7,8 @@ from given import AHEAD, APART, FEW_WAYS, NO_INTEGERS, NO_TUPLES, PEEKS, PICTURE
 from movedrows.errors import InvalidLog
 from movedrows.logs import explained, require_log, traces
 from movedrows.rules import named_rules
-from plain import Row, first_of, plain_behind, plain_steps, search
+from plain import first_of, plain_behind, plain_steps
+from plain_searches import plain_showing, plain_traces
 
 OVER, KEY, ROW = named_rules("over"), named_rules("key"), named_rules("row")
 GREAT = 10 ** 30
@@ -75,31 +76,6 @@ class RequireLog(unittest.TestCase):
         self.assert_invalid((1, 1, 5), 0)
         self.assert_invalid((0, 1, 1, -1), 2)
         self.assert_invalid((None, 0, 0), 0)
-
-
-def plain_showing(way, standing):
-    """Return what is shown."""
-    return {(): 0, (1,): 1, (2,): 2, (1, 2): 3}[tuple(key for key, _ in Row(way, standing).shown())]
-
-
-def plain_after_trace(way, rules, log, trace):
-    """Return a list of (step, trace) of all steps from a trace that lead to one."""
-    many, standing = trace
-    found = []
-    for step in plain_steps(way, standing):
-        after = plain_behind(way, rules, standing, step)
-        shown = plain_showing(way, after)
-        if shown == log[many - 1]:
-            found.append((step, (many, after)))
-        if many < len(log) and shown == log[many]:
-            found.append((step, (many + 1, after)))
-    return found
-
-
-def plain_traces(way, rules, log):
-    """Return a dict from each trace to the least number of steps to it."""
-    return search((1, first_of(way)), lambda trace: [
-        after for _, after in plain_after_trace(way, rules, log, trace)])
 
 
 def logs_of(most):

@@ -9,7 +9,8 @@ from given import AHEAD, APART, MOST, NO_INTEGERS, NO_TUPLES, SLIPS, WIPE, neste
 from movedrows.errors import InvalidOptions
 from movedrows.mends import cheapest_mend, choices, require_options, with_choice
 from movedrows.rules import named_rules
-from plain import plain_keeps, plain_standings_for
+from plain import plain_standings_for
+from plain_searches import plain_choices, plain_mend
 
 OVER, KEY, ROW = named_rules("over"), named_rules("key"), named_rules("row")
 GREAT = 10 ** 30
@@ -93,17 +94,6 @@ class RequireOptions(unittest.TestCase):
         self.assert_invalid((TO_ONE_LANE, (0, 3, 5), None), 1)
         self.assert_invalid((None, (0, 3, 5), TO_ONE_LANE), 0)
         self.assert_invalid(((0, 3, 5), (0, 1, 100), (36, 0, 0)), 0)
-
-
-def plain_choices(options):
-    """Return a list of all choices in their order."""
-    found = []
-    for many in range(4):
-        for choice in itertools.permutations(range(len(options)), many):
-            whats = [options[index][0] for index in choice]
-            if list(choice) == sorted(choice) and all(whats.count(what) == 1 for what in whats):
-                found.append((sum(options[index][2] for index in choice), choice))
-    return [choice for _, choice in sorted(found)]
 
 
 class Choices(unittest.TestCase):
@@ -196,19 +186,6 @@ class WithChoice(unittest.TestCase):
         options = ((9, 5, 5), (35, 4, 1), (0, 2, 1))
         expected = (APART, (5,) + OVER[1:26] + (4,))
         self.assert_with(AHEAD, OVER, options, (0, 1, 2), expected)
-
-
-def plain_mend(way, rules, wishes, options):
-    """Return the first choice that mends or None, and the numbers of standings that were searched up to it."""
-    counts = []
-    for choice in plain_choices(options):
-        parts = {options[index][0]: options[index][1] for index in choice}
-        with_it = with_parts(way, parts)
-        rules_with_it = with_parts(rules, {what - 9: value for what, value in parts.items() if what >= 9})
-        counts += [len(plain_standings_for(with_it, rules_with_it, word)) for word in wishes]
-        if all(plain_keeps(with_it, rules_with_it, word) for word in wishes):
-            return choice, counts
-    return None, counts
 
 
 SLIPPING = with_parts(APART, {SLIPS: 1})

@@ -9,85 +9,16 @@ from movedrows.errors import LimitExceeded
 from movedrows.rules import named_rules
 from movedrows.trials import breaking_by, first_table, open_index
 from movedrows.wishes import keeps
-from plain import WISHES, first_of, plain_asked, plain_behind, plain_broken, plain_remembered, plain_steps, search
+from plain import WISHES, first_of, plain_broken, plain_remembered, plain_steps
+from plain_searches import NO_ACTIONS, Trial, lets, plain_break, plain_open, plain_standings_by, plain_standings_by_for
 
 OVER, KEY, ROW = named_rules("over"), named_rules("key"), named_rules("row")
-NOWHERE_SET = (None,) * 27
-
-
-def asked_of(way, table, standing, step):
-    """Return the index that the step asks, or None; what the table does there does not matter."""
-    return plain_asked(way, tuple(action or 0 for action in table), standing, step)
-
-
-def lets(way, table, standing, step):
-    """Return whether the step asks no index without an action."""
-    index = asked_of(way, table, standing, step)
-    return index is None or table[index] is not None
-
-
-def plain_standings_by(way, table):
-    """Return a dict from each standing of the partial table to the least number of steps to it."""
-    return search(first_of(way), lambda standing: [
-        plain_behind(way, table, standing, step) for step in plain_steps(way, standing)
-        if lets(way, table, standing, step)])
-
-
-def plain_standings_by_for(way, table, word):
-    """Return the same with the memory of the wish."""
-    return search(first_of(way), lambda standing: [
-        plain_remembered(way, table, word, standing, step) for step in plain_steps(way, standing)
-        if lets(way, table, standing, step)])
-
-
-def plain_open(way, table):
-    """Return the least open index, or None."""
-    found = set()
-    for standing in plain_standings_by(way, table):
-        for step in plain_steps(way, standing):
-            if not lets(way, table, standing, step):
-                found.add(asked_of(way, table, standing, step))
-    return min(found, default=None)
-
-
-def plain_break(way, table, word):
-    """Return the least number of steps of a weaving of the partial table that breaks the wish, or None."""
-    found = plain_standings_by_for(way, table, word)
-    return min((count for standing, count in found.items() if plain_broken(way, word, standing)), default=None)
-
-
-class Trial:
-    """A trial told plainly: what it comes to, how many tables it tries, how many standings these have at most."""
-
-    def __init__(self, way, wishes):
-        self.way = way
-        self.wishes = wishes
-        self.tried = []
-        self.counts = []
-        self.table = self.grow(NOWHERE_SET)
-
-    def grow(self, table):
-        """Try the table and all that comes of it; return the rules to which this comes, or None."""
-        self.tried.append(table)
-        searches = [plain_standings_by_for(self.way, table, word) for word in self.wishes]
-        self.counts.append(max(map(len, searches + [plain_standings_by(self.way, table)])))
-        for word, found in zip(self.wishes, searches):
-            if any(plain_broken(self.way, word, standing) for standing in found):
-                return None
-        index = plain_open(self.way, table)
-        if index is None:
-            return tuple(0 if action is None else action for action in table)
-        for action in range(6):
-            rules = self.grow(table[:index] + (action,) + table[index + 1:])
-            if rules is not None:
-                return rules
-        return None
 
 
 def partial_tables():
     """Return partial tables with None everywhere, at some indices, nowhere."""
     made = random.Random(9)
-    tables = [NOWHERE_SET, OVER, KEY, ROW, own_rules(1), (None,) * 9 + OVER[9:18] + (None,) * 9]
+    tables = [NO_ACTIONS, OVER, KEY, ROW, own_rules(1), (None,) * 9 + OVER[9:18] + (None,) * 9]
     for rules in (OVER, KEY, ROW, own_rules(2)):
         for many in (1, 4, 12):
             none = made.sample(range(27), many)
@@ -99,13 +30,13 @@ def partial_tables():
 class OpenIndex(SearchCase):
     def test_none_everywhere(self):
         # A row's first entry is a row that finds nothing; slips and wipes let a strike come ahead of it.
-        self.assertEqual(open_index(AHEAD, NOWHERE_SET), 9)
-        self.assertEqual(open_index(with_parts(AHEAD, {SLIPS: 1}), NOWHERE_SET), 0)
-        self.assertEqual(open_index(with_parts(AHEAD, {PRESS: 1, LAG: 2}), NOWHERE_SET), 0)
-        self.assertEqual(open_index(with_parts(AHEAD, {PEEKS: 1}), NOWHERE_SET), 9)
+        self.assertEqual(open_index(AHEAD, NO_ACTIONS), 9)
+        self.assertEqual(open_index(with_parts(AHEAD, {SLIPS: 1}), NO_ACTIONS), 0)
+        self.assertEqual(open_index(with_parts(AHEAD, {PRESS: 1, LAG: 2}), NO_ACTIONS), 0)
+        self.assertEqual(open_index(with_parts(AHEAD, {PEEKS: 1}), NO_ACTIONS), 9)
 
     def test_looks_and_peeks_ask(self):
-        table = with_parts(NOWHERE_SET, {9: 0})
+        table = with_parts(NO_ACTIONS, {9: 0})
         self.assertEqual(open_index(with_parts(AHEAD, {PEEKS: 1}), table), 0)
         table = with_parts(table, {0: 0})
         self.assertEqual(open_index(with_parts(AHEAD, {PEEKS: 1}), table), 18)
@@ -171,9 +102,9 @@ class BreakingBy(SearchCase):
         self.assertEqual(open_index(APART, table), 10)
 
     def test_a_weaving_that_asks_nothing(self):
-        weaving = breaking_by(with_parts(AHEAD, {SLIPS: 1}), NOWHERE_SET, "ends")
+        weaving = breaking_by(with_parts(AHEAD, {SLIPS: 1}), NO_ACTIONS, "ends")
         self.assertIn(weaving, ((("change", 1), ("slip", 0)), (("change", 2), ("slip", 0))))
-        self.assertIsNone(breaking_by(AHEAD, NOWHERE_SET, "ends"))
+        self.assertIsNone(breaking_by(AHEAD, NO_ACTIONS, "ends"))
 
 
 # Way, wishes: small trials that come to a table, and some that do not.
@@ -230,7 +161,7 @@ class FirstTable(SearchCase):
     def test_the_order_of_the_trial(self):
         # Ahead of an action all of the one before it is tried, with all that comes of it.
         trial = Trial(AHEAD, ("ends",))
-        self.assertEqual(trial.tried[0], NOWHERE_SET)
+        self.assertEqual(trial.tried[0], NO_ACTIONS)
         for many in range(1, len(trial.tried) + 1):
             self.assertEqual(trial.tried[many - 1][9] or 0, 0 if many < 3 else 1)
         firsts = [table[9] for table in trial.tried]
@@ -298,7 +229,7 @@ class Limit(SearchCase):
     def test_a_broken_wish_does_not_end_the_count(self):
         # "ends" is broken by the first table; the standings of "there" behind it count.
         way = with_parts(AHEAD, {SLIPS: 1})
-        few, more = len(plain_standings_by(way, NOWHERE_SET)), len(plain_standings_by_for(way, NOWHERE_SET, "there"))
+        few, more = len(plain_standings_by(way, NO_ACTIONS)), len(plain_standings_by_for(way, NO_ACTIONS, "there"))
         self.assertLess(few, more)
         self.assertIsNone(first_table(way, ("ends",), limit=few, tables=1))
         self.assert_exceeded(few, first_table, way, ("ends", "there"), limit=few, tables=1)
@@ -331,8 +262,8 @@ class Limit(SearchCase):
         self.assert_exceeded(200, first_table, with_parts(AHEAD, {LAG: 2, PRESS: 1}), ("ends", "there"))
 
     def test_keyword_only(self):
-        self.assert_keyword_only_limit(open_index, AHEAD, NOWHERE_SET)
-        self.assert_keyword_only_limit(breaking_by, AHEAD, NOWHERE_SET, "one")
+        self.assert_keyword_only_limit(open_index, AHEAD, NO_ACTIONS)
+        self.assert_keyword_only_limit(breaking_by, AHEAD, NO_ACTIONS, "one")
 
     def test_by_name(self):
         table = with_parts(OVER, {10: None})
@@ -342,7 +273,7 @@ class Limit(SearchCase):
         self.assertEqual(first_table(tables=200, limit=2000, wishes=("ends",), way=AHEAD), first_table(AHEAD, ("ends",)))
 
     def test_nothing_changes(self):
-        handed = (AHEAD, ("ends", "there"), NOWHERE_SET)
+        handed = (AHEAD, ("ends", "there"), NO_ACTIONS)
         kept = copy.deepcopy(handed)
         first_table(*handed[:2])
         open_index(handed[0], handed[2])
