@@ -85,7 +85,8 @@ def breaks_fault(way, rules, options, chosen, breaks):
     """Return the first fault of breaks that should break a wish with each of the chosen choices, in their order."""
     if len(breaks) != len(chosen):
         return ("many",)
-    for index, (choice, (word, weaving)) in enumerate(zip(chosen, breaks)):
+    for index, (choice, broken) in enumerate(zip(chosen, breaks)):
+        word, weaving = broken
         with_it, rules_with_it = with_choice(way, rules, options, choice)
         fault = broken_fault(with_it, rules_with_it, word, weaving)
         if fault is not None:

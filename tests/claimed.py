@@ -50,6 +50,7 @@ MENDS = (
     (APART, ROW, ("one",), ((0, 1, 5), (1, 1, 2))),
     (APART, OVER, ("one",), ((1, 1, 2),)),
     (APART, OVER, ("one",), ((0, 1, 0), (1, 1, 0), (0, 1, 99))),
+    (APART, OVER, ("one",), ((0, 1, 5), (1, 1, 4))),
     (with_parts(APART, {SLIPS: 1}), OVER, ("ends", "one"), ((0, 1, 5), (4, 0, 7))),
     (with_parts(APART, {SLIPS: 1}), OVER, ("ends", "on", "one"), ((4, 0, 7), (0, 1, 5), (2, 2, 12))),
     (AHEAD, rules_with(OVER, 9, 0), ("ends", "on"), ((18, 3, 1), (18, 1, 9))),

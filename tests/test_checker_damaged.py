@@ -6,6 +6,7 @@ from claimed import BACKS, INDICES, LOGS, MENDS, PAIRS, SETTINGS, TRIALS
 from damage import damaged
 from movedrows.checker import first_fault
 from movedrows.claims import decide
+from movedrows.errors import LimitExceeded
 from plain_checker import plain_first_fault
 
 
@@ -63,15 +64,31 @@ class BothVerdicts(CheckedCase):
             accepted = [first_fault((other, claim, paper)) is None for paper in papers[::5]]
             self.assertFalse(any(accepted))
 
-    def test_drawn_papers_of_the_other_verdict(self):
-        # Damaged papers of claims that differ a little: never are both verdicts accepted for one claim.
-        made = random.Random(7)
-        for claim in [("keeps",) + setting for setting in SETTINGS[:6]] + [("alike",) + pair for pair in PAIRS[:4]]:
-            verdict, _, paper = decide(claim)
-            for _ in range(30):
-                told, other, changed = damaged(made, (verdict, claim, paper))
-                if first_fault((told, other, changed)) is None:
-                    self.assertEqual(decide(other)[0], told)
+    def test_drawn_papers(self):
+        # Whatever is damaged, a paper that is accepted has the verdict that is right for its claim.
+        claims = [("keeps",) + setting for setting in SETTINGS] + [("alike",) + pair for pair in PAIRS]
+        claims += [("soonest",) + setting + (many,) for setting in SETTINGS[::3] for many in (None, 3, 4, 5)]
+        claims += [("needless",) + index for index in INDICES] + [("log",) + log for log in LOGS]
+        claims += [("back",) + back + (most,) for back in BACKS for most in (None, 0, 6, 12)]
+        claims += [("mend",) + mend + (most,) for mend in MENDS for most in (None, 0, 5, 12)]
+        claims += [("none",) + trial for trial in TRIALS]
+        made, accepted = random.Random(7), 0
+        for claim in claims:
+            told = decide(claim)
+            for _ in range(8):
+                verdict, other, paper = damaged(made, told)
+                if first_fault((verdict, other, paper)) is None:
+                    with self.subTest(claim=other):
+                        accepted += self.is_decided_so(other, verdict)
+        self.assertGreater(accepted, 100)
+
+    def is_decided_so(self, claim, verdict):
+        """Check that this is the right verdict; return whether it could be decided within the limit."""
+        try:
+            self.assertEqual(decide(claim)[0], verdict)
+        except LimitExceeded:
+            return False
+        return True
 
 
 if __name__ == "__main__":

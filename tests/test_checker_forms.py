@@ -5,7 +5,7 @@ import unittest
 
 from checks import CheckedCase, less
 from claimed import EACH, KEY, OVER, PEEKING, ROW, SLIPPING
-from given import AHEAD, APART, EMPTY, LAG, NO_INTEGERS, NO_STEPS, NO_TUPLES, PEEKS, PICTURE, STEPS, nested, with_parts
+from given import AHEAD, APART, EMPTY, LAG, NO_INTEGERS, NO_STEPS, NO_TUPLES, PICTURE, STEPS, nested, with_parts
 from movedrows.checker import first_fault
 from movedrows.claims import decide
 from plain import first_of, plain_ranked
@@ -28,6 +28,9 @@ NO_LOG = ("log", AHEAD, OVER, (0, 1, 3))
 NONE = ("none", AHEAD, ("ends", "there"))
 SOME = ("none", AHEAD, ("ends",))
 CLAIMS = (KEEPS, KEPT, SOONEST, ALIKE, NEEDLESS, BACK, MEND, LOG, NO_LOG, NONE, SOME)
+
+# Right papers of the claims that are shown with a number.
+SOON, BACK_PAPER, MEND_PAPER = [decide(claim)[2] for claim in (SOONEST, BACK, MEND)]
 
 # Values that are no paper of any claim.
 NO_PAPERS = NO_TUPLES + (
@@ -73,7 +76,10 @@ class Form(CheckedCase):
 class Weavings(CheckedCase):
     def assert_form(self, weaving, formed):
         """Check whether this is a weaving in its form: as all the papers that have one see it."""
+        listed, levels, _ = SOON
         for verdict, claim, paper in (
+                ("shown", SOONEST, (listed, levels, weaving)), ("shown", BACK, BACK_PAPER[:2] + (weaving,) + BACK_PAPER[3:]),
+                ("shown", MEND, MEND_PAPER[:2] + ((("one", weaving),),)),
                 ("broken", KEEPS, weaving), ("broken", KEEPS, ("narrow", APART, weaving)),
                 ("broken", SOONEST, ("sooner", weaving)), ("broken", ALIKE, weaving), ("broken", NEEDLESS, weaving),
                 ("shown", LOG, weaving), ("shown", BACK[:4] + (None,), (weaving, ())),
@@ -90,7 +96,8 @@ class Weavings(CheckedCase):
 
     def test_steps_at_their_bounds_and_beyond(self):
         for step in (
-                ("change", 3), ("change", -1), ("take", 2), ("take", -1), ("slip", 2), ("mark", 2), ("fall", 2), ("look", 0),
+                ("change", 3), ("change", -1), ("take", 2), ("take", -1), ("slip", 2), ("slip", -1), ("mark", 2), ("mark", -1),
+                ("fall", 2), ("fall", -1), ("press", -1, 0), ("wipe", 0, -1), ("look", 0),
                 ("look", 3), ("peek", 0), ("peek", 3), ("press", 2, 0), ("press", 0, 1000), ("press", 0, -1),
                 ("wipe", 2, 0), ("wipe", 1, 1000), ("wipe", -1, 0), ("change", GREAT), ("press", 0, GREAT)):
             self.assert_form((step,), False)
@@ -200,6 +207,11 @@ class Standings(CheckedCase):
             for part in (0, 1):
                 lane = put(EMPTY, {part: (entry,)})
                 self.assert_both(APART, put(BARE, {2: (lane, EMPTY)}), formed)
+
+    def test_keys(self):
+        for key in NO_INTEGERS + (0, 1, 2, 3, -1, GREAT):
+            formed = type(key) is int and key in (1, 2)
+            self.assert_both(AHEAD, put(first_of(AHEAD), {2: (((), ((key, 1, 1),)),)}), formed)
 
     def test_keys_go_into_their_lanes(self):
         for key in (1, 2):

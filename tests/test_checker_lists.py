@@ -1,7 +1,7 @@
 import unittest
 
 from checks import CheckedCase, less
-from claimed import INDICES, KEY, LOGS, OVER, PAIRS, ROW, ROW_FIRST, SETTINGS, SLIPPING
+from claimed import INDICES, KEY, LOGS, OVER, PAIRS, ROW, ROW_FIRST, SETTINGS
 from given import AHEAD, APART, LAG, MARKS, PICTURE, SLIPS, WIPE, with_parts
 from movedrows.claims import decide
 from plain import first_of, plain_doubles, plain_parted, plain_remembered, plain_standings, plain_standings_for

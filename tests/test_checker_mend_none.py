@@ -42,7 +42,7 @@ class Mend(CheckedCase):
         self.assert_fault(("shown", self.claim + (5,), (choice, lists, both[::-1])), ("break", 0, ("step", 0)))
 
     def test_lists_of_several_wishes(self):
-        claim = MENDS[5]
+        claim = MENDS[6]
         cost = 12
         choice, lists, breaks = decide(("mend",) + claim + (cost,))[2]
         self.assertEqual(len(lists), 3)
@@ -68,6 +68,17 @@ class Mend(CheckedCase):
             self.assert_fault(("shown", claim, wrong), ("many",))
         self.assert_fault(("shown", claim, (breaks[0], ("one", ()))), ("break", 1, ("wish",)))
         self.assert_fault(("shown", self.claim + (None,), (breaks[0],) * 4), ("break", 2, ("step", 3)))
+
+    def test_choices_that_cost_one_less(self):
+        # The cheaper choice costs 4: for 5 it has to be broken, for 4 it has not.
+        claim = ("mend", APART, OVER, ("one",), ((0, 1, 5), (1, 1, 4)))
+        choice, lists, breaks = decide(claim + (5,))[2]
+        self.assertEqual(len(breaks), 2)
+        self.assert_fault(("shown", claim + (5,), (choice, lists, breaks)), None)
+        self.assert_fault(("shown", claim + (5,), (choice, lists, breaks[:1])), ("many",))
+        self.assert_fault(("broken", claim + (4,), ("more", breaks)), None)
+        self.assert_fault(("broken", claim + (3,), ("more", breaks)), ("many",))
+        self.assert_fault(("broken", claim + (3,), ("more", breaks[:1])), None)
 
     def test_less(self):
         paper = decide(self.claim + (None,))[2]

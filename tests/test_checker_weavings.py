@@ -4,6 +4,7 @@ from checks import CheckedCase, less
 from claimed import KEY, OVER, PEEKING, ROW, SLIPPING
 from given import AHEAD, APART, LAG, MARKS, PICTURE, SLIPS, WIPE, with_parts
 from movedrows.claims import decide
+from movedrows.errors import LimitExceeded
 from plain import first_of, plain_standings_for
 from plain_checker import plain_first_fault
 from plain_searches import put
@@ -25,6 +26,18 @@ class Weavings(CheckedCase):
         self.assert_fault(("broken", claim, (("change", 1), ("take", 0)) + weaving), None)
         # A step that cannot be done is told ahead of a wish that is not broken.
         self.assert_fault(("broken", claim, (("take", 1),)), ("step", 0))
+
+    def test_it_has_no_limit(self):
+        # A way with far more standings than any limit lets: its weavings can be checked all the same.
+        great = (2, 1, 3, 2, 1, 1, 3, 2, 1)
+        with self.assertRaises(LimitExceeded):
+            decide(("keeps", great, OVER, "one"))
+        weaving = (("change", 1), ("take", 0), ("change", 2), ("take", 1))
+        self.assert_fault(("broken", ("keeps", great, OVER, "one"), weaving), None)
+        self.assert_fault(("broken", ("soonest", great, OVER, "one", None), ("sooner", weaving)), None)
+        self.assert_fault(("broken", ("alike", great, OVER, ROW), weaving), None)
+        self.assert_fault(("broken", ("needless", great, OVER, 10), weaving), None)
+        self.assert_fault(("shown", ("log", great, OVER, (0, 1, 3)), weaving), None)
 
     def test_a_lane_that_the_way_has_not(self):
         self.assert_fault(("broken", ("keeps", AHEAD, OVER, "one"), (("change", 1), ("take", 1))), ("step", 1))

@@ -3,8 +3,8 @@
 import random
 import unittest
 
-from claimed import BACKS, EACH, INDICES, KEY, LOGS, MENDS, OVER, PAIRS, ROW, SETTINGS, TRIALS
-from given import AHEAD, APART, LAG, MARKS, MOST, PEEKS, PICTURE, PRESS, SLIPS, WIPE, own_rules, ways_of_all_kinds, with_parts
+from claimed import BACKS, INDICES, KEY, LOGS, MENDS, OVER, PAIRS, ROW, SETTINGS, TRIALS
+from given import AHEAD, LAG, PRESS, own_rules, ways_of_all_kinds, with_parts
 from housed import NAMES, HouseCase, deeds_for, deeds_of, done, drawn_deed, house_with
 from movedrows.back import back_from
 from movedrows.checker import first_fault

@@ -232,7 +232,8 @@ class Weavings(Texts):
                 "take", "take 2", "take 00", "take 0 0", "take +0", "slip 2", "mark 2", "fall 2", "press 0", "press 0 1000",
                 "press 0 0999", "press 2 0", "press 0 -1", "press 0  1", "press 0 1 2", "wipe 0 1000", "wipe 2 0",
                 "wipe 1 00", "wipe\t1 0", "picture 0", "picture ", "look", "look 0", "look 3", "end 0", "end 1", "peek 0",
-                "peek 3", "table", "undo", "lanes 2", "press 0 1e1", "press 0 1_0", "press 0 \u0661", "press 0 \u00b2",
+                "peek 3", "table", "undo", "lanes 2", "press 0 1e1", "press 0 1_0",
+                "press 0 x", "take x", "press 0 0x1", "press 0 \u0661", "press 0 \u00b2",
                 "press 0 " + "1" * 5000, "press 0 " + "0" * 5000, "take 0\r", "take\r0", "take 0\x0c", "take 0\u2028",
                 "take 0\x1e", "change 1;take 0", "change 1,take 0", "('change', 1)", "0", "None", "True"):
             with self.subTest(line=line[:30]):
