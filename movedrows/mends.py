@@ -78,15 +78,18 @@ def first_mend(way, rules, wishes, options, limit):
 
     A break is a wish and a shortest weaving that breaks it with the choice.
     """
-    breaks = []
+    mend, searches_with_it, breaks = None, [], []
     for choice in choices(options):
-        with_it, rules_with_it = with_choice(way, rules, options, choice)
-        searches = searches_for(with_it, rules_with_it, wishes, limit)
-        broken = first_break(searches)
-        if broken is None:
-            return (choice, searches, breaks)
-        breaks.append((choice, broken))
-    return (None, [], breaks)
+        # All choices count for the limit, also those behind the one that mends: so none is left out.
+        changed_way, changed_rules = with_choice(way, rules, options, choice)
+        searches = searches_for(changed_way, changed_rules, wishes, limit)
+        if mend is None:
+            broken = first_break(searches)
+            if broken is None:
+                mend, searches_with_it = choice, searches
+            else:
+                breaks.append((choice, broken))
+    return (mend, searches_with_it, breaks)
 
 
 def cheapest_mend(way, rules, wishes, options, *, limit=LIMIT):

@@ -56,6 +56,28 @@ MENDS = (
     (AHEAD, rules_with(OVER, 9, 0), ("ends", "on"), ((18, 3, 1), (18, 1, 9))),
 )
 
+# Way, rules, wishes, options and the first choice that mends: one behind it has more standings than all up to it.
+BEHIND = (
+    # The first one behind it, which mends, too.
+    (AHEAD, (2, 2, 0, 2, 2, 0, 0, 0, 0, 2, 2, 0, 2, 2, 0, 0, 0, 0, 3, 3, 0, 3, 0, 0, 0, 0, 0), ("on",),
+     ((2, 2, 1), (15, 1, 1), (24, 5, 20)), ()),
+    # The last one of several, which does not mend.
+    (AHEAD, OVER, ("one",), ((2, 3, 1), (4, 1, 1)), ()),
+    # One of the greatest cost, of the same cost, of cost 0.
+    (APART, OVER, ("one",), ((0, 1, 5), (2, 2, 99)), (0,)),
+    (APART, OVER, ("one",), ((0, 1, 5), (2, 2, 5)), (0,)),
+    (APART, OVER, ("one",), ((1, 1, 4), (0, 1, 0), (2, 2, 0)), (1,)),
+    # By the first wish alone; by a later one alone, behind one that is broken there.
+    (AHEAD, OVER, ("on", "one"), ((1, 1, 2),), ()),
+    (AHEAD, ROW, ("ends", "on"), ((4, 1, 5),), ()),
+    # Behind a choice of several options; a choice of three.
+    (with_parts(APART, {SLIPS: 1}), OVER, ("ends", "one"), ((0, 1, 5), (4, 0, 7), (2, 2, 13)), (0, 1)),
+    (APART, ROW, ("ends", "on"), ((11, 5, 1), (6, 3, 5), (7, 1, 5)), ()),
+)
+
+# The same without a choice that mends: the last one has the most standings.
+MENDLESS = (SLIPPING, OVER, ("ends",), ((3, 1, 1), (8, 1, 8)))
+
 # Way, rules and a log.
 LOGS = (
     (APART, OVER, (0, 1, 3)), (AHEAD, OVER, (0, 1, 3)), (AHEAD, OVER, (0,)), (AHEAD, OVER, (0, 1, 2)),

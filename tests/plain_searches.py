@@ -60,17 +60,28 @@ def put(parts, others):
     return tuple(others.get(index, part) for index, part in enumerate(parts))
 
 
+def plain_with(way, rules, options, choice):
+    """Return the way and the rules with all options of the choice."""
+    parts = {options[index][0]: options[index][1] for index in choice}
+    return put(way, parts), put(rules, {what - 9: value for what, value in parts.items() if what >= 9})
+
+
 def plain_mend(way, rules, wishes, options):
-    """Return the first choice that mends or None, and the numbers of standings that were searched up to it."""
-    counts = []
+    """Return the first choice that mends, or None."""
     for choice in plain_choices(options):
-        parts = {options[index][0]: options[index][1] for index in choice}
-        with_it = put(way, parts)
-        rules_with_it = put(rules, {what - 9: value for what, value in parts.items() if what >= 9})
-        counts += [len(plain_standings_for(with_it, rules_with_it, word)) for word in wishes]
+        with_it, rules_with_it = plain_with(way, rules, options, choice)
         if all(plain_keeps(with_it, rules_with_it, word) for word in wishes):
-            return choice, counts
-    return None, counts
+            return choice
+    return None
+
+
+def plain_mend_counts(way, rules, wishes, options):
+    """Return a dict from each choice, in their order, to the greatest number of its standings for any of the wishes."""
+    counts = {}
+    for choice in plain_choices(options):
+        with_it, rules_with_it = plain_with(way, rules, options, choice)
+        counts[choice] = max(len(plain_standings_for(with_it, rules_with_it, word)) for word in wishes)
+    return counts
 
 
 def asked_of(way, table, standing, step):

@@ -3,7 +3,8 @@ import inspect
 import unittest
 
 from checks import SearchCase, plain_walked
-from claimed import BACKS, EACH, INDICES, KEY, LOGS, MENDS, OVER, PAIRS, ROW, SETTINGS, SLIPPING, TRIALS
+from claimed import BACKS, BEHIND, EACH, INDICES, KEY, LOGS, MENDLESS, MENDS, OVER, PAIRS, ROW, SETTINGS, SLIPPING
+from claimed import TRIALS
 from given import AHEAD, APART, NO_INTEGERS, NO_TUPLES, NO_WISHES, nested
 from movedrows.checker import first_fault
 from movedrows.claims import decide, require_claim
@@ -11,7 +12,7 @@ from movedrows.errors import InvalidClaim, LimitExceeded
 from movedrows.trials import first_table
 from plain import plain_asked, plain_broken, plain_double_behind, plain_doubles, plain_parted, plain_remembered
 from plain import first_of, plain_standings, plain_standings_for, plain_steps, plain_ways_back
-from plain_searches import Trial, plain_counts, plain_mend, plain_showing, plain_traces
+from plain_searches import Trial, plain_counts, plain_mend, plain_mend_counts, plain_showing, plain_traces
 
 GREAT = 10 ** 40
 OPTIONS = ((0, 1, 5), (1, 1, 2))
@@ -246,7 +247,7 @@ class Mend(Decided):
     def test_each_number(self):
         met = set()
         for way, rules, wishes, options in MENDS:
-            choice, _ = plain_mend(way, rules, wishes, options)
+            choice = plain_mend(way, rules, wishes, options)
             cost = None if choice is None else sum(options[index][2] for index in choice)
             met.add(cost)
             claim = ("mend", way, rules, wishes, options)
@@ -313,14 +314,34 @@ class Limit(SearchCase):
                 (CLAIMS[4], len(plain_standings(APART, KEY))),
                 (CLAIMS[4][:4] + (None,), len(plain_standings(APART, KEY))),
                 (("back", SLIPPING, KEY, EACH, 3), len(plain_standings(SLIPPING, KEY))),
-                (CLAIMS[5], max(plain_mend(APART, OVER, ("one",), OPTIONS)[1])),
-                (CLAIMS[5][:5] + (0,), max(plain_mend(APART, OVER, ("one",), OPTIONS)[1])),
+                (CLAIMS[5], max(plain_mend_counts(APART, OVER, ("one",), OPTIONS).values())),
+                (CLAIMS[5][:5] + (0,), max(plain_mend_counts(APART, OVER, ("one",), OPTIONS).values())),
                 (CLAIMS[6], len(plain_traces(APART, OVER, (0, 1, 3)))),
                 (("log", AHEAD, OVER, (0, 1, 3)), len(plain_traces(AHEAD, OVER, (0, 1, 3)))),
                 (CLAIMS[7], max(Trial(AHEAD, ("ends", "there")).counts)),
                 (("none", AHEAD, ("ends",)), max(Trial(AHEAD, ("ends",)).counts))):
             with self.subTest(claim=claim):
                 self.assert_limit(many, decide, claim)
+
+    def test_choices_behind_the_first_one_that_mends_count(self):
+        for way, rules, wishes, options, choice in BEHIND:
+            most = max(plain_mend_counts(way, rules, wishes, options).values())
+            cost = sum(options[index][2] for index in choice)
+            for other in (None, 0, cost, cost + 1):
+                claim = ("mend", way, rules, wishes, options, other)
+                with self.subTest(claim=claim):
+                    told = decide(claim, limit=most)
+                    self.assertEqual(told[:2], ("shown" if other == cost else "broken", claim))
+                    self.assertIsNone(first_fault(told))
+                    self.assert_exceeded(most - 1, decide, claim, limit=most - 1)
+
+    def test_the_last_choice_counts_where_none_mends(self):
+        *others, last = plain_mend_counts(*MENDLESS).values()
+        self.assertLess(max(others), last)
+        for other in (None, 0, 8, 300):
+            claim = ("mend",) + MENDLESS + (other,)
+            self.assertEqual(decide(claim, limit=last)[0], "shown" if other is None else "broken")
+            self.assert_exceeded(last - 1, decide, claim, limit=last - 1)
 
     def test_just_as_many_tables(self):
         for wishes in (("ends",), ("ends", "there")):

@@ -5,12 +5,13 @@ import types
 import unittest
 
 from checks import SearchCase
+from claimed import BEHIND, MENDLESS
 from given import AHEAD, APART, MOST, NO_INTEGERS, NO_TUPLES, SLIPS, WIPE, nested, own_rules, with_parts
 from movedrows.errors import InvalidOptions
 from movedrows.mends import cheapest_mend, choices, require_options, with_choice
 from movedrows.rules import named_rules
 from plain import plain_standings_for
-from plain_searches import plain_choices, plain_mend
+from plain_searches import plain_choices, plain_mend, plain_mend_counts
 
 OVER, KEY, ROW = named_rules("over"), named_rules("key"), named_rules("row")
 GREAT = 10 ** 30
@@ -214,7 +215,7 @@ class CheapestMend(SearchCase):
     def test_choices_that_mend(self):
         for way, rules, wishes, options, expected in MENDS:
             with self.subTest(way=way, wishes=wishes, options=options):
-                self.assertEqual(plain_mend(way, rules, wishes, options)[0], expected)
+                self.assertEqual(plain_mend(way, rules, wishes, options), expected)
                 self.assertEqual(cheapest_mend(way, rules, wishes, options), expected)
 
     def test_the_example(self):
@@ -227,16 +228,16 @@ class CheapestMend(SearchCase):
             for wishes in (("one",), ("on",), ("on", "one"), ("ends", "there")):
                 options = ((0, 1, number), (18, 1, 2), (21, 2, 3))
                 with self.subTest(number=number, wishes=wishes):
-                    expected = plain_mend(APART, rules, wishes, options)[0]
+                    expected = plain_mend(APART, rules, wishes, options)
                     self.assertEqual(cheapest_mend(APART, rules, wishes, options), expected)
 
 
 class Limit(SearchCase):
-    def test_each_choice_up_to_the_one_that_is_returned_and_each_wish(self):
-        for way, rules, wishes, options, expected in MENDS:
-            counts = plain_mend(way, rules, wishes, options)[1]
+    def test_each_choice_and_each_wish(self):
+        for way, rules, wishes, options, _ in MENDS:
+            counts = plain_mend_counts(way, rules, wishes, options)
             with self.subTest(way=way, wishes=wishes, options=options):
-                self.assert_limit(max(counts), cheapest_mend, way, rules, wishes, options)
+                self.assert_limit(max(counts.values()), cheapest_mend, way, rules, wishes, options)
 
     def test_a_wish_behind_a_broken_one_counts(self):
         # Without a choice "one" is broken; the standings with the memory of "there" are more, and count all the same.
@@ -247,11 +248,25 @@ class Limit(SearchCase):
         self.assert_exceeded(few, cheapest_mend, APART, OVER, ("one", "there"), options, limit=few)
         self.assertEqual(cheapest_mend(APART, OVER, ("one",), options, limit=few), (0,))
 
-    def test_a_choice_behind_the_one_that_is_returned_does_not_count(self):
-        few = len(plain_standings_for(AHEAD, OVER, "one"))
-        options = ((2, 3, 1), (4, 1, 1))
-        self.assertLess(few, len(plain_standings_for(with_parts(AHEAD, {2: 3}), OVER, "one")))
-        self.assertEqual(cheapest_mend(AHEAD, OVER, ("one",), options, limit=few), ())
+    def test_choices_behind_the_first_one_that_mends_count(self):
+        for way, rules, wishes, options, expected in BEHIND:
+            with self.subTest(way=way, wishes=wishes, options=options):
+                self.assertEqual(plain_mend(way, rules, wishes, options), expected)
+                counts = plain_mend_counts(way, rules, wishes, options)
+                ahead = plain_choices(options)[:plain_choices(options).index(expected) + 1]
+                few, most = max(counts[choice] for choice in ahead), max(counts.values())
+                self.assertLess(few, most)
+                self.assertEqual(cheapest_mend(way, rules, wishes, options, limit=most), expected)
+                self.assert_limit(most, cheapest_mend, way, rules, wishes, options)
+                # As many are enough to tell the answer, but they are not all.
+                self.assert_exceeded(few, cheapest_mend, way, rules, wishes, options, limit=few)
+
+    def test_the_last_choice_counts_where_none_mends(self):
+        self.assertIsNone(plain_mend(*MENDLESS))
+        *others, last = plain_mend_counts(*MENDLESS).values()
+        self.assertLess(max(others), last)
+        self.assertIsNone(cheapest_mend(*MENDLESS, limit=last))
+        self.assert_limit(last, cheapest_mend, *MENDLESS)
 
     def test_left_out_it_is_2000(self):
         # 1,984 and 2,006 standings.
